@@ -1,0 +1,1 @@
+"""Turnguard: code that tells when a bit has turned."""
