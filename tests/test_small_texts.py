@@ -5,7 +5,7 @@ import unittest
 from turnguard.errors import NoProgram
 from turnguard.texts import read, write
 
-# How many rows behind the first are tried; what they need to be made whole is at most one more than twice as many.
+# So many rows behind the first are tried; a body that begins with them can end within one more than twice as many.
 TRIED = 5
 MADE = 2 * TRIED + 1
 ROWS = ("in", "in a", "x = 1", "if a {", "while a {", "}", "} else {", "back x", "?")
