@@ -131,6 +131,25 @@ class Language(unittest.TestCase):
 
         self.each(check)
 
+    def test_what_is_walked_is_not_kept(self):
+        def check(text, tree):
+            for node in ast.walk(tree):
+                if isinstance(node, (ast.Assign, ast.Return)) and isinstance(node.value, ast.Call):
+                    called = node.value.func
+                    name = called.id if isinstance(called, ast.Name) else getattr(called, "attr", "")
+                    self.assertNotIn(name, ("zip", "enumerate", "reversed", "range", "items", "keys", "values"))
+
+        self.each(check)
+
+    def test_is_stands_beside_none_and_truths(self):
+        def check(text, tree):
+            for node in ast.walk(tree):
+                if isinstance(node, ast.Compare) and isinstance(node.ops[0], (ast.Is, ast.IsNot)):
+                    self.assertIsInstance(node.comparators[0], ast.Constant)
+                    self.assertIn(type(node.comparators[0].value), (bool, type(None)))
+
+        self.each(check)
+
     def test_the_top_of_a_file(self):
         def check(text, tree):
             self.assertIsNotNone(ast.get_docstring(tree))
