@@ -120,6 +120,37 @@ class Language(unittest.TestCase):
 
         self.each(check)
 
+    def test_names_that_stand_for_something_else(self):
+        def check(text, tree):
+            taken = set()
+            for node in tree.body:
+                if isinstance(node, ast.ImportFrom):
+                    taken |= {alias.name for alias in node.names}
+                if isinstance(node, ast.ClassDef):
+                    taken.add(node.name)
+            for node in ast.walk(tree):
+                if isinstance(node, ast.arg):
+                    self.assertNotIn(node.arg, taken)
+                if isinstance(node, ast.Name) and isinstance(node.ctx, ast.Store):
+                    self.assertNotIn(node.id, taken)
+
+        self.each(check)
+
+    def test_no_name_is_a_method_here_and_a_value_there(self):
+        methods, values = set(), set()
+
+        def gather(text, tree):
+            for node in ast.walk(tree):
+                if isinstance(node, ast.ClassDef):
+                    own = [part.name for part in node.body if isinstance(part, ast.FunctionDef)]
+                    self.assertEqual(len(own), len(set(own)))
+                    methods.update(own)
+                if isinstance(node, ast.Attribute) and isinstance(node.ctx, ast.Store):
+                    values.add(node.attr)
+
+        self.each(gather)
+        self.assertEqual(methods & values, set())
+
     def test_methods(self):
         def check(text, tree):
             own = bound(tree)

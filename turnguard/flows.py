@@ -20,6 +20,12 @@ def numbers_of(row, part):
     return [number for own, number in zip(PARTS[row[0]], row[1:]) if own == part]
 
 
+def to_places(row, moved):
+    """A row that goes on to what its places have become, moved telling that of each place."""
+    numbers = [moved[number] if part == "place" else number for part, number in zip(PARTS[row[0]], row[1:])]
+    return tuple([row[0]] + numbers)
+
+
 def reads(row):
     """The spots that a row reads, sorted."""
     boxes = numbers_of(row, "box")

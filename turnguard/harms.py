@@ -9,28 +9,35 @@ ENDS_OF_MARKS = ("mark", "out", "back")
 
 def lasts(code, harm):
     """The harms as which a harm of code lasts, each once, sorted."""
-    return lasts_by(code[harm[0]], harm[1], live(code))
+    return lasts_by(code[harm[0]], [harm[1]], live(code))[0]
 
 
-def lasts_by(row, thing, lively):
-    """The harms as which a thing lasts by a row of code, lively being what is live at each place of it."""
-    later = things_behind(row, thing)
+def lasts_by(row, things, lively):
+    """For each of the things the harms as which it lasts by a row of code, lively being what is live at each place."""
+    # Told once for all things: to ask the row anew for each of them takes most of the time.
+    taken = reads(row)
+    given = gives(row)
+    onward = ways_of(row)
+    return [at_ways(onward, things_behind(row, thing, taken, given), lively) for thing in things]
+
+
+def at_ways(onward, things, lively):
+    """The harms of such things at places, where they are live there, each once, sorted."""
     found = []
-    for way in ways_of(row):
-        found.extend([(way, other) for other in later if other == "mark" or other in lively[way]])
+    for way in onward:
+        found.extend([(way, thing) for thing in things if thing == "mark" or thing in lively[way]])
     return sorted(set(found))
 
 
-def things_behind(row, thing):
-    """The things as which a thing lasts behind a row, where they are live."""
+def things_behind(row, thing, taken, given):
+    """The things as which a thing lasts behind a row that reads what is taken and gives what is given, where live."""
     if thing == "mark":
         return [] if row[0] in ENDS_OF_MARKS else ["mark"]
     if row[0] in ENDS_OF_SPOTS and row[1] == thing[1]:
         return []
-    given = gives(row)
     found = [] if thing in given else [thing]
     # Only deeds give, so that of other rows nothing comes here.
-    if thing in reads(row):
+    if thing in taken:
         found.extend([spot for spot in given if spot[0] == thing[0]])
     return found
 
@@ -40,8 +47,9 @@ def lasting(code):
     lively = live(code)
     found = {}
     for place, row in enumerate(code):
-        for thing in lively[place] + ["mark"]:
-            found[(place, thing)] = lasts_by(row, thing, lively)
+        things = lively[place] + ["mark"]
+        for thing, later in zip(things, lasts_by(row, things, lively)):
+            found[(place, thing)] = later
     return found
 
 
@@ -51,23 +59,27 @@ def delays(code):
 
 
 def lengths(later):
-    """The number of harms of the longest way from each harm on, or None where ways go round."""
+    """The number of harms of the longest way from each harm on, or None where ways have no longest one."""
+    found = ended(later)
+    return found if len(found) == len(later) else None
+
+
+def ended(later):
+    """A dict from those harms whose ways have a longest one to the number of its harms."""
     earlier = turned(later)
-    found = dict([(harm, 1) for harm in later])
     waiting = dict([(harm, len(later[harm])) for harm in later])
-    # From the harms that last no longer back: each is done when all as which it lasts are.
+    # From the harms that last no longer back: each is ready when all as which it lasts are done.
     ready = [harm for harm in later if waiting[harm] == 0]
-    done = 0
+    found = {}
     while ready:
         harm = ready.pop()
-        done += 1
+        found[harm] = 1 + max([found[other] for other in later[harm]], default=0)
         for other in earlier[harm]:
-            found[other] = max(found[other], found[harm] + 1)
             waiting[other] -= 1
             if waiting[other] == 0:
                 ready.append(other)
-    # Harms that go round wait for one another, and are never done.
-    return found if done == len(later) else None
+    # Harms that go round wait for one another, and those that last as them wait too: they are never ready.
+    return found
 
 
 def turned(later):
@@ -89,12 +101,17 @@ def longest(code):
     """A longest way of harm in code, or None where there is none."""
     later = lasting(code)
     found = lengths(later)
-    if found is None:
-        return None
+    # Where none goes round, no way has more harms than there are.
+    return None if found is None else way_of(later, found, len(later))
+
+
+def way_of(later, found, most):
+    """A way of as many harms as can be, but at most so many; found tells of each harm what ended does."""
     coming = list(later)
     way = []
-    while coming:
-        harm = max(coming, key=lambda other: found[other])
+    while coming and len(way) < most:
+        # Harms whose ways have no longest one are not in found, and are good for any number.
+        harm = max(coming, key=lambda other: found.get(other, most))
         way.append(harm)
         coming = later[harm]
     return way
